@@ -1,0 +1,1 @@
+"""Plait: arcs that take colours at crossings."""

@@ -1,0 +1,190 @@
+"""The form of the package's code: what of LANGUAGE.md can be seen in the tree of a file."""
+
+import ast
+import pathlib
+import re
+import unittest
+
+PACKAGE = pathlib.Path(__file__).resolve().parent.parent / "plait"
+CALLED = set(
+    "len range enumerate zip min max sum abs sorted reversed int str bool list tuple dict set frozenset isinstance"
+    " ord repr any all divmod".split()
+)
+CLASSES = set(
+    "Exception ValueError TypeError KeyError IndexError LookupError ZeroDivisionError ArithmeticError OverflowError"
+    " RuntimeError NotImplementedError AttributeError StopIteration".split()
+)
+METHODS = set(
+    "append clear copy count endswith extend find get index insert isalnum isalpha isdigit islower isspace isupper"
+    " items join keys ljust lower lstrip partition pop remove replace reverse rfind rjust rpartition rsplit rstrip"
+    " setdefault split splitlines startswith strip update upper values zfill bit_length".split()
+)
+BARRED_WORDS = re.compile(
+    r"\b(type|typing|typing_extensions|enum|Enum|IntEnum|StrEnum|Flag|IntFlag|Generic|Protocol|ABC|ABCMeta"
+    r"|namedtuple|NamedTuple|TypedDict|TYPE_CHECKING|abstractmethod)\b|dataclass|overload|contextmanager"
+)
+BARRED_NAMES = set(
+    "register mro elements open input version_info with_traceback add_note attrgetter breakpoint builtins compile"
+    " copyright credits delattr dir eval exec exit gc getattr globals hasattr help id importlib license locals"
+    " methodcaller os quit setattr super type vars sys chr print format format_map hash map next filter iter".split()
+)
+STATEMENTS = (
+    ast.Assign, ast.AugAssign, ast.If, ast.While, ast.For, ast.Return, ast.Break, ast.Continue, ast.Pass, ast.Raise,
+    ast.Try, ast.Expr, ast.FunctionDef, ast.ClassDef, ast.ImportFrom,
+)
+BARRED_EXPRESSIONS = (
+    ast.SetComp, ast.DictComp, ast.GeneratorExp, ast.NamedExpr, ast.Starred, ast.Await, ast.Yield, ast.YieldFrom,
+    ast.Div, ast.MatMult, ast.Set,
+)
+
+
+def files():
+    return sorted(path for path in PACKAGE.rglob("*") if "__pycache__" not in path.parts)
+
+
+def parsed():
+    return [(path, path.read_text(encoding="ascii")) for path in files()]
+
+
+def nodes(kind):
+    for path, text in parsed():
+        for node in ast.walk(ast.parse(text)):
+            if isinstance(node, kind):
+                yield f"{path.name}:{getattr(node, 'lineno', 0)}", node
+
+
+def bound_at_top(tree):
+    told = []
+    for node in tree.body:
+        if isinstance(node, (ast.FunctionDef, ast.ClassDef)):
+            told.append(node.name)
+        elif isinstance(node, ast.Assign):
+            told += [target.id for target in node.targets]
+        elif isinstance(node, ast.ImportFrom):
+            told += [alias.asname or alias.name for alias in node.names]
+    return told
+
+
+class Files(unittest.TestCase):
+    def test_names_and_signs(self):
+        self.assertIn(PACKAGE / "__init__.py", files())
+        for path in files():
+            self.assertRegex(path.name, r"^([a-z][a-z0-9_]*|__init__|__main__)\.py$")
+            text = path.read_bytes().decode("ascii")
+            self.assertRegex(text, r"\A[ -~\n]*\Z")
+            self.assertNotRegex(text, BARRED_WORDS)
+
+    def test_sizes(self):
+        for path, text in parsed():
+            lines = text.split("\n")
+            self.assertLessEqual(len(lines), 400, path.name)
+            self.assertLessEqual(max(len(line) for line in lines), 120, path.name)
+        for where, node in nodes(ast.FunctionDef):
+            self.assertLessEqual(node.end_lineno - node.lineno + 1, 40, where)
+
+    def test_each_top_name_is_bound_once(self):
+        for path, text in parsed():
+            names = bound_at_top(ast.parse(text))
+            self.assertEqual(len(set(names)), len(names), path.name)
+
+
+class Imports(unittest.TestCase):
+    def test_from_the_file_that_defines_the_name(self):
+        defined = {f"plait.{path.stem}": ast.parse(text) for path, text in parsed()}
+        for where, node in nodes(ast.ImportFrom):
+            self.assertEqual(node.level, 0, where)
+            tree = defined[node.module]
+            own = [each for each in tree.body if not isinstance(each, ast.ImportFrom)]
+            for alias in node.names:
+                self.assertIn(alias.name, bound_at_top(ast.Module(own, [])), where)
+
+    def test_no_two_files_draw_from_one_another(self):
+        drawn = {}
+        for path, text in parsed():
+            rows = [node for node in ast.parse(text).body if isinstance(node, ast.ImportFrom)]
+            drawn[f"plait.{path.stem}"] = {row.module for row in rows}
+        while drawn:
+            free = [name for name, below in drawn.items() if not below & set(drawn)]
+            self.assertTrue(free, sorted(drawn))
+            drawn = {name: below for name, below in drawn.items() if name not in free}
+
+
+class Code(unittest.TestCase):
+    def test_statements(self):
+        for where, node in nodes(ast.stmt):
+            self.assertIsInstance(node, STATEMENTS, where)
+            if isinstance(node, (ast.For, ast.While)):
+                self.assertEqual(node.orelse, [], where)
+            if isinstance(node, ast.Assign):
+                self.assertEqual(len(node.targets), 1, where)
+            if isinstance(node, ast.Try):
+                self.assertEqual(node.finalbody, [], where)
+            if isinstance(node, ast.ClassDef):
+                self.assertEqual((node.decorator_list, len(node.bases)), ([], 1), where)
+            if isinstance(node, ast.FunctionDef):
+                self.assertEqual(node.decorator_list, [], where)
+
+    def test_a_text_by_itself_stands_at_the_top_of_a_file_alone(self):
+        for path, text in parsed():
+            tree = ast.parse(text)
+            self.assertIsNotNone(ast.get_docstring(tree), path.name)
+            alone = [node for node in ast.walk(tree) if isinstance(node, ast.Expr) and node is not tree.body[0]]
+            self.assertTrue(all(isinstance(node.value, ast.Call) for node in alone), path.name)
+
+    def test_expressions(self):
+        for where, node in nodes((ast.expr, ast.operator)):
+            self.assertNotIsInstance(node, BARRED_EXPRESSIONS, where)
+            if isinstance(node, ast.Constant):
+                self.assertIn(type(node.value), (int, str, bool, type(None)), where)
+                self.assertNotIn("%", str(node.value), where)
+            if isinstance(node, ast.ListComp):
+                self.assertEqual(len(node.generators), 1, where)
+                self.assertLessEqual(len(node.generators[0].ifs), 1, where)
+            if isinstance(node, ast.FormattedValue):
+                self.assertIsInstance(node.value, ast.Name, where)
+            if isinstance(node, ast.Compare) and isinstance(node.ops[0], (ast.Is, ast.IsNot)):
+                self.assertIsInstance(node.comparators[0], ast.Constant, where)
+
+    def test_parameters(self):
+        for where, node in nodes(ast.arguments):
+            self.assertEqual((node.vararg, node.kwarg, node.kwonlyargs, node.posonlyargs), (None, None, [], []), where)
+
+    def test_names(self):
+        for where, node in nodes(ast.Name):
+            self.assertRegex(node.id, r"^[A-Za-z]", where)
+            self.assertNotIn(node.id, BARRED_NAMES, where)
+            if isinstance(node.ctx, ast.Store):
+                self.assertNotIn(node.id, CALLED | CLASSES, where)
+        for where, node in nodes(ast.arg):
+            self.assertRegex(node.arg, r"^[A-Za-z]", where)
+            self.assertNotIn(node.arg, CALLED | CLASSES | BARRED_NAMES, where)
+            self.assertIsNone(node.annotation, where)
+        for where, node in nodes(ast.FunctionDef):
+            self.assertRegex(node.name, r"^([A-Za-z]\w*|__init__|__eq__|__repr__|__str__|__len__)$", where)
+
+    def test_no_parameter_or_local_is_called_like_an_import_or_a_class(self):
+        for path, text in parsed():
+            tree = ast.parse(text)
+            taken = set()
+            for node in tree.body:
+                if isinstance(node, ast.ClassDef):
+                    taken.add(node.name)
+                elif isinstance(node, ast.ImportFrom):
+                    taken |= {alias.name for alias in node.names}
+            for node in ast.walk(tree):
+                if isinstance(node, ast.Name) and isinstance(node.ctx, ast.Store):
+                    self.assertNotIn(node.id, taken, path.name)
+                elif isinstance(node, ast.arg):
+                    self.assertNotIn(node.arg, taken, path.name)
+
+    def test_calls_of_pythons_own(self):
+        own = {node.name for where, node in nodes(ast.FunctionDef)}
+        for where, node in nodes(ast.Call):
+            if isinstance(node.func, ast.Attribute):
+                self.assertIn(node.func.attr, METHODS | own, where)
+            elif node.func.id not in own and not node.func.id[0].isupper():
+                self.assertIn(node.func.id, CALLED, where)
+
+
+if __name__ == "__main__":
+    unittest.main()
