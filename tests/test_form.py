@@ -1,4 +1,4 @@
-"""The form of the package's code: what of LANGUAGE.md can be seen in the tree of a file."""
+"""The form of the package's code: a part of LANGUAGE.md; of L13, L15, L18, L19, L22 to L24 and L26 to L28 little or nothing."""
 
 import ast
 import pathlib
