@@ -1,6 +1,7 @@
-"""The form of the package's code: a part of LANGUAGE.md; of L13, L15, L18, L19, L22 to L24 and L26 to L28 little or nothing."""
+"""The form of the package's code: a part of LANGUAGE.md; of L15, L18, L19, L25, L26 and L28 little or nothing."""
 
 import ast
+import builtins
 import pathlib
 import re
 import unittest
@@ -38,6 +39,15 @@ BARRED_EXPRESSIONS = (
 )
 
 
+WALKED = {"zip", "enumerate", "reversed", "range"}
+WALKED_METHODS = {"items", "keys", "values"}
+WALKERS = {"list", "tuple", "dict", "sorted", "sum", "any", "all", "enumerate", "zip"}
+KEYWORDS = {
+    "sorted": {"key", "reverse"}, "min": {"key", "default"}, "max": {"key", "default"}, "sum": {"start"},
+    "enumerate": {"start"}, "zip": {"strict"},
+}
+
+
 def files():
     return sorted(path for path in PACKAGE.rglob("*") if "__pycache__" not in path.parts)
 
@@ -51,6 +61,18 @@ def nodes(kind):
         for node in ast.walk(ast.parse(text)):
             if isinstance(node, kind):
                 yield f"{path.name}:{getattr(node, 'lineno', 0)}", node
+
+
+def with_parents():
+    """Each node with the one that it stands in."""
+    for path, text in parsed():
+        for parent in ast.walk(ast.parse(text)):
+            for node in ast.iter_child_nodes(parent):
+                yield f"{path.name}:{getattr(node, 'lineno', 0)}", parent, node
+
+
+def called_name(node):
+    return node.func.id if isinstance(node, ast.Call) and isinstance(node.func, ast.Name) else None
 
 
 def bound_at_top(tree):
@@ -176,6 +198,57 @@ class Code(unittest.TestCase):
                     self.assertNotIn(node.id, taken, path.name)
                 elif isinstance(node, ast.arg):
                     self.assertNotIn(node.arg, taken, path.name)
+
+    def test_no_parameter_or_local_is_called_like_pythons_own(self):
+        own = set(dir(builtins))
+        for where, node in nodes((ast.Name, ast.arg, ast.FunctionDef)):
+            if isinstance(node, ast.FunctionDef):
+                self.assertNotIn(node.name, own, where)
+            elif isinstance(node, ast.arg) or isinstance(node.ctx, ast.Store):
+                self.assertNotIn(getattr(node, "id", None) or node.arg, own, where)
+
+    def test_what_is_walked_on_the_spot(self):
+        for where, parent, node in with_parents():
+            method = isinstance(node, ast.Call) and isinstance(node.func, ast.Attribute) and node.func.attr
+            if called_name(node) in WALKED or method in WALKED_METHODS:
+                walker = called_name(parent)
+                walked = isinstance(parent, (ast.For, ast.comprehension)) and parent.iter is node
+                first = walker in WALKERS and node in (parent.args if walker == "zip" else parent.args[:1])
+                alone = walker in ("min", "max") and parent.args == [node]
+                joined = isinstance(parent, ast.Call) and getattr(parent.func, "attr", None) == "join"
+                self.assertTrue(walked or first or alone or joined, where)
+
+    def test_sets(self):
+        operators = (ast.Sub, ast.BitAnd, ast.BitOr, ast.BitXor)
+        for where, parent, node in with_parents():
+            if called_name(node) in ("set", "frozenset"):
+                between = isinstance(parent, ast.BinOp) and isinstance(parent.op, operators)
+                within = called_name(parent) in ("sorted", "len") and parent.keywords == []
+                self.assertTrue(isinstance(parent, ast.Compare) or between or within, where)
+
+    def test_keywords(self):
+        own = {node.name for where, node in nodes((ast.FunctionDef, ast.ClassDef))}
+        for where, node in nodes(ast.Call):
+            if called_name(node) not in own:
+                allowed = KEYWORDS.get(called_name(node), set())
+                self.assertLessEqual({each.arg for each in node.keywords}, allowed, where)
+
+    def test_powers_have_a_written_exponent(self):
+        for where, node in nodes(ast.BinOp):
+            if isinstance(node.op, ast.Pow):
+                self.assertIsInstance(node.right, ast.Constant, where)
+                self.assertIn(node.right.value, range(65), where)
+
+    def test_no_two_lambdas_with_the_same_parameters_on_one_line(self):
+        told = [(where, ast.dump(node.args)) for where, node in nodes(ast.Lambda)]
+        self.assertEqual(len(set(told)), len(told))
+
+    def test_errors_are_taken_by_name(self):
+        for where, node in nodes(ast.ExceptHandler):
+            caught = node.type.elts if isinstance(node.type, ast.Tuple) else [node.type]
+            for each in caught:
+                self.assertIsInstance(each, ast.Name, where)
+                self.assertNotIn(each.id, ("Exception", "TypeError", "BaseException"), where)
 
     def test_calls_of_pythons_own(self):
         own = {node.name for where, node in nodes(ast.FunctionDef)}
