@@ -43,6 +43,43 @@ def many_drawings():
     return told
 
 
+def plain_arcs(drawing):
+    """Point 9 word by word: ways on both sides of an over passage are of one arc, arcs numbered as they come."""
+    told = []
+    number = 0
+    for walk in drawing[0]:
+        size = len(walk)
+        groups = [{way} for way in range(max(size, 1))]
+        for place, passage in enumerate(walk):
+            if passage > 0:
+                joined = groups[place] | groups[(place + 1) % size]
+                for way in joined:
+                    groups[way] = joined
+        numbers = []
+        for way, group in enumerate(groups):
+            if min(group) == way:
+                numbers.append(number)
+                number += 1
+            else:
+                numbers.append(numbers[min(group)])
+        told.append(numbers)
+    return told
+
+
+def plain_meets(drawing):
+    numbers = plain_arcs(drawing)
+    told = []
+    for crossing, sign in sorted(drawing[1]):
+        for walk, ways in zip(drawing[0], numbers):
+            for place, passage in enumerate(walk):
+                if passage == crossing:
+                    over = ways[place]
+                if passage == -crossing:
+                    inward, outward = ways[place], ways[(place + 1) % len(walk)]
+        told.append((crossing, sign, over, inward, outward))
+    return told
+
+
 def formula_table(size, factor):
     return [[(factor * a + (1 - factor) * b) % size for b in range(size)] for a in range(size)]
 
@@ -185,6 +222,16 @@ def spoil(value):
         found.append(987654321)
 
 
+def refilled(handed, other):
+    """What was handed in, its very lists now with the other's things."""
+    if isinstance(handed, list):
+        handed[:] = copy.deepcopy(other)
+        return handed
+    if isinstance(handed, tuple):
+        return tuple(refilled(old, new) for old, new in zip(handed, other))
+    return other
+
+
 class PlaitTest(unittest.TestCase):
     def assert_own_lists(self, function, *handed):
         """What is handed in stays as it was; what is told is new, within too, and the asker's own."""
@@ -204,6 +251,14 @@ class PlaitTest(unittest.TestCase):
         spoil(handed)
         self.assertEqual(again, expected)
         self.assertEqual(function(*before), expected)
+
+    def assert_asked_anew(self, function, first, second):
+        """The same lists with other things in them are answered as they are now."""
+        expected = function(*copy.deepcopy(second))
+        # Each copied by itself: one list in two places could not become two.
+        handed = tuple(copy.deepcopy(each) for each in first)
+        self.assertEqual(function(*handed), function(*first))
+        self.assertEqual(function(*refilled(handed, second)), expected)
 
     def assert_refused(self, refusal, function, *handed):
         """The refusal comes, each time alike, and what was handed in stays as it was."""

@@ -3,44 +3,9 @@
 import unittest
 
 from plait.arcs import arc_count, arcs, meets
-from tests.helpers import BIG, FAR, HOPF, TREFOIL, PlaitTest, many_drawings, numbered
-
-
-def plain_arcs(drawing):
-    """Point 9 word by word: ways on both sides of an over passage are of one arc, arcs numbered as they come."""
-    told = []
-    number = 0
-    for walk in drawing[0]:
-        size = len(walk)
-        groups = [{way} for way in range(max(size, 1))]
-        for place, passage in enumerate(walk):
-            if passage > 0:
-                joined = groups[place] | groups[(place + 1) % size]
-                for way in joined:
-                    groups[way] = joined
-        numbers = []
-        for way, group in enumerate(groups):
-            if min(group) == way:
-                numbers.append(number)
-                number += 1
-            else:
-                numbers.append(numbers[min(group)])
-        told.append(numbers)
-    return told
-
-
-def plain_meets(drawing):
-    numbers = plain_arcs(drawing)
-    told = []
-    for crossing, sign in sorted(drawing[1]):
-        for walk, ways in zip(drawing[0], numbers):
-            for place, passage in enumerate(walk):
-                if passage == crossing:
-                    over = ways[place]
-                if passage == -crossing:
-                    inward, outward = ways[place], ways[(place + 1) % len(walk)]
-        told.append((crossing, sign, over, inward, outward))
-    return told
+from tests.helpers import (
+    BIG, FAR, HOPF, TREFOIL, PlaitTest, many_drawings, numbered, plain_arcs, plain_meets,
+)
 
 
 class Arcs(PlaitTest):

@@ -230,6 +230,15 @@ class Both(PlaitTest):
         self.assert_refused(TooBig, both, BY_SIZE[5][0], BY_SIZE[5][0])
 
 
+class AskedAnew(PlaitTest):
+    def test_groups_that_were_changed(self):
+        for one, other in zip(GROUPS, reversed(GROUPS)):
+            self.assert_asked_anew(group_broken, (one,), ([[0, 1], [1, 1]],))
+            self.assert_asked_anew(group_broken, ([[0, 1], [1, 1]],), (other,))
+            self.assert_asked_anew(inverse, (one, len(one) - 1), (other, len(other) - 1))
+            self.assert_asked_anew(both, (one, [[0]]), ([[0]], other))
+
+
 class Inverse(PlaitTest):
     def test_each_number(self):
         self.assertEqual([inverse(plain_cycle(5), a) for a in range(5)], [0, 4, 3, 2, 1])

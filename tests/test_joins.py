@@ -121,6 +121,16 @@ class Paired(PlaitTest):
                 self.assert_own_lists(paired, BY_SIZE[first][-1], BY_SIZE[second][0])
 
 
+class AskedAnew(PlaitTest):
+    def test_tables_that_were_changed(self):
+        small = [table for table in TABLES if len(table) <= 4]
+        for one, other in itertools.product(small, repeat=2):
+            for function in (side, paired):
+                self.assert_asked_anew(function, (one, other), (other, [[0]]))
+        for one, other in zip(TABLES, reversed(TABLES)):
+            self.assert_asked_anew(moved, (one, shuffled(len(one), 1)), (other, shuffled(len(other), 2)))
+
+
 class Moved(PlaitTest):
     def assert_moved(self, table, places):
         told = moved(table, places)

@@ -173,6 +173,15 @@ class Part(PlaitTest):
                 self.assert_own_lists(part, table, plain_members(table, some))
 
 
+class AskedAnew(PlaitTest):
+    def test_tables_and_lists_that_were_changed(self):
+        for one, other in zip(TABLES, reversed(TABLES)):
+            first, last = [0, len(one) - 1], [len(other) - 1, 0]
+            self.assert_asked_anew(grown, (one, first), (other, last))
+            self.assert_asked_anew(part, (one, plain_members(one, first)), (other, plain_members(other, last)))
+            self.assert_asked_anew(orbits, (one,), (other,))
+
+
 class Orbits(PlaitTest):
     def test_one_orbit(self):
         for size in range(1, 25, 2):

@@ -214,6 +214,16 @@ class Dual(PlaitTest):
             self.assert_own_lists(back, table, len(table) - 1, 0)
 
 
+class AskedAnew(PlaitTest):
+    def test_tables_that_were_changed(self):
+        for one, other in zip(good_tables(), reversed(good_tables())):
+            for function in (broken, dual):
+                self.assert_asked_anew(function, (one,), (other,))
+            self.assert_asked_anew(broken, (one,), ([[0, 1], [0, 1]],))
+            for function in (by, back):
+                self.assert_asked_anew(function, (one, 0, len(one) - 1), (other, 0, len(other) - 1))
+
+
 class ByFormula(PlaitTest):
     def test_still(self):
         self.assertEqual(still(1), [[0]])
