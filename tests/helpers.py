@@ -207,6 +207,131 @@ def plain_dual(table):
     return told
 
 
+def plain_pair(drawing, walk, place):
+    """Point 29: the two passages, None where there is no such pair."""
+    found = {}
+    for number, passages in enumerate(drawing[0]):
+        for at in range(len(passages) - 1):
+            found[number, at] = (passages[at], passages[at + 1])
+    return found.get((walk, place))
+
+
+def plain_turnabouts(drawing, top, mid, low):
+    """Point 31: whether the three pairs may pass, whichever of their passages a, b and c are."""
+    signs = dict(drawing[1])
+    for a, b in (top, top[::-1]):
+        for c in signs:
+            named = a > 0 and b > 0 and c not in (a, b)
+            if named and sorted(mid) == sorted((-a, c)) and sorted(low) == sorted((-b, -c)):
+                p = 1 if top == (a, b) else -1
+                q = 1 if mid == (-a, c) else -1
+                r = 1 if low == (-b, -c) else -1
+                return p * signs[b] == q * signs[c] and q * signs[a] == r * signs[b]
+    return False
+
+
+def plain_places(drawing, walk):
+    """The places at which a pair may be laid into the walk."""
+    return range(len(drawing[0][walk]) + 1) if walk in range(len(drawing[0])) else ()
+
+
+def plain_new(drawing, *names):
+    taken = {abs(passage) for passages in drawing[0] for passage in passages}
+    few = len(taken) + len(names) <= 40
+    return few and len(set(names)) == len(names) and all(name > 0 and name not in taken for name in names)
+
+
+def plain_legal(drawing, move):
+    """Point 31 word by word."""
+    word, rest = move[0], move[1:]
+    if word == "turn":
+        return rest[0] in range(len(drawing[0]))
+    if word == "curl":
+        walk, place, crossing, first, sign = rest
+        laid = place in plain_places(drawing, walk) and plain_new(drawing, crossing)
+        return laid and first in ("over", "under") and sign in (1, -1)
+    if word == "lay":
+        over_walk, over_place, under_walk, under_place, one, two, crossed, sign = rest
+        laid = over_place in plain_places(drawing, over_walk) and plain_new(drawing, one, two)
+        if not laid or sign not in (1, -1):
+            return False
+        longer = copy.deepcopy(drawing)
+        longer[0][over_walk][over_place:over_place] = [one, two]
+        between = (over_walk, over_place + 1) == (under_walk, under_place)
+        return under_place in plain_places(longer, under_walk) and not between
+    pairs = [plain_pair(drawing, *spot) for spot in zip(rest[::2], rest[1::2])]
+    if None in pairs:
+        return False
+    if word == "uncurl":
+        return sum(pairs[0]) == 0
+    if word == "unlay":
+        signs = dict(drawing[1])
+        over, under = pairs
+        named = over[0] > 0 and over[1] > 0 and sorted(under) == sorted((-over[0], -over[1]))
+        return named and signs[over[0]] + signs[over[1]] == 0
+    return plain_turnabouts(drawing, *pairs)
+
+
+def plain_done(drawing, move):
+    """What point 31 tells that a legal move makes of the drawing."""
+    walks, signs = copy.deepcopy(drawing)
+    word, rest = move[0], move[1:]
+    if word == "turn":
+        for each in range(rest[1] % max(len(walks[rest[0]]), 1)):
+            walks[rest[0]].append(walks[rest[0]].pop(0))
+    elif word == "curl":
+        walk, place, crossing, first, sign = rest
+        walks[walk][place:place] = [crossing, -crossing] if first == "over" else [-crossing, crossing]
+        signs.append((crossing, sign))
+    elif word == "lay":
+        over_walk, over_place, under_walk, under_place, one, two, crossed, sign = rest
+        walks[over_walk][over_place:over_place] = [one, two]
+        walks[under_walk][under_place:under_place] = [-two, -one] if crossed else [-one, -two]
+        signs += [(one, sign), (two, -sign)]
+    elif word == "pass":
+        for walk, place in zip(rest[::2], rest[1::2]):
+            walks[walk][place:place + 2] = reversed(walks[walk][place:place + 2])
+    else:
+        cut = {abs(passage) for passage in walks[rest[0]][rest[1]:rest[1] + 2]}
+        walks = [[passage for passage in walk if abs(passage) not in cut] for walk in walks]
+        signs = [entry for entry in signs if entry[0] not in cut]
+    return (walks, sorted(signs))
+
+
+def all_spots(drawing, beyond=0):
+    """Walks and places, with so many walks and places beyond either end."""
+    for walk in range(-beyond, len(drawing[0]) + beyond):
+        length = len(drawing[0][walk]) if walk in range(len(drawing[0])) else 1
+        for place in range(-beyond, length + 1 + beyond):
+            yield (walk, place)
+
+
+def tried_moves(drawing, beyond=0):
+    """Moves of all six forms, legal or not, at all walks and places."""
+    new = sorted(set(range(1, 100)) - {entry[0] for entry in drawing[1]})
+    spots = list(all_spots(drawing, beyond))
+    for walk, place in spots:
+        yield ("turn", walk, place)
+        yield ("uncurl", walk, place)
+        for first, sign in itertools.product(("over", "under"), (1, -1)):
+            yield ("curl", walk, place, new[place % 2], first, sign)
+    for over in spots:
+        last = max(place for walk, place in spots if walk == over[0])
+        # The over walk has two places more as soon as the over pair lies there.
+        for under in spots + [(over[0], last + 1), (over[0], last + 2)]:
+            for crossed, sign in itertools.product((True, False), (1, -1)):
+                yield ("lay", *over, *under, *new[:2][::sign], crossed, sign)
+        for under in spots:
+            yield ("unlay", *over, *under)
+    for top, mid, low in itertools.product(spots, repeat=3):
+        yield ("pass", *top, *mid, *low)
+
+
+def legal_moves(drawing):
+    """All that are legal, each once, of all six forms."""
+    return [move for move in dict.fromkeys(tried_moves(drawing)) if plain_legal(drawing, move)]
+
+
 def lists_in(value):
     if isinstance(value, list):
         yield value
@@ -227,9 +352,84 @@ def refilled(handed, other):
     if isinstance(handed, list):
         handed[:] = copy.deepcopy(other)
         return handed
-    if isinstance(handed, tuple):
+    if isinstance(handed, tuple) and list(lists_in(handed)):
         return tuple(refilled(old, new) for old, new in zip(handed, other))
     return other
+
+
+def chain_from(drawing, length, seed, most=40):
+    """Random legal moves, one behind another; beyond so many crossings none is laid any more."""
+    source = random.Random(seed)
+    told = []
+    for each in range(length):
+        moves = list(shrinking_moves(drawing))
+        if not moves or source.random() < 0.6:
+            moves += [growing_move(drawing, source) for each in range(2)] if len(drawing[1]) < most else []
+        moves = [move for move in moves if plain_legal(drawing, move)]
+        move = source.choice(moves or [("turn", source.randrange(len(drawing[0])), source.randrange(-9, 9))])
+        told.append(move)
+        drawing = plain_done(drawing, move)
+    return told
+
+
+def growing_move(drawing, source):
+    def spot():
+        walk = source.randrange(len(drawing[0]))
+        return (walk, source.randrange(len(drawing[0][walk]) + 1))
+
+    one, two = source.sample(sorted(set(range(1, 100)) - {entry[0] for entry in drawing[1]}), 2)
+    if source.random() < 0.4:
+        return ("curl", *spot(), one, source.choice(("over", "under")), source.choice((1, -1)))
+    return ("lay", *spot(), *spot(), one, two, source.random() < 0.5, source.choice((1, -1)))
+
+
+def shrinking_moves(drawing):
+    """All moves that lay nothing, at the pairs where they might be legal."""
+    places = {}
+    for walk, passages in enumerate(drawing[0]):
+        for place in range(len(passages) - 1):
+            places[tuple(passages[place:place + 2])] = (walk, place)
+    for (first, second), spot in places.items():
+        yield ("uncurl", *spot)
+        for under in ((-first, -second), (-second, -first)):
+            if under in places:
+                yield ("unlay", *spot, *places[under])
+        mids = [mid for mid in places if min(mid) in (-first, -second) and max(mid) > 0]
+        for mid, low in itertools.product(mids, places):
+            if -max(mid) in low:
+                yield ("pass", *spot, *places[mid], *places[low])
+
+
+def passing(ups, signs, spread, seed=0):
+    """A drawing with the three pairs of a "pass" and the move: in these orders, in one, two or three walks."""
+    a, b, c, other = [(5, 3, 9, 7), (2, 1, 8, 3), (9, 4, 1, 6)][seed % 3]
+    pairs = [[a, b], [-a, c], [-b, -c]]
+    pairs = [pair if up == 1 else pair[::-1] for pair, up in zip(pairs, ups)]
+    source = random.Random(seed)
+    walks = [[] for walk in set(spread)]
+    for at in shuffled(3, seed):
+        walks[spread[at]].append(pairs[at])
+    for passage in (other, -other) if seed % 2 else ():
+        walk = source.choice(walks)
+        walk.insert(source.randrange(len(walk) + 1), [passage])
+    walks = [[passage for pair in walk for passage in pair] for walk in walks]
+    entries = dict(zip((a, b, c), signs))
+    if seed % 2:
+        entries[other] = source.choice((1, -1))
+    drawing = (walks, sorted(entries.items()))
+    spots = [(walk, walks[walk].index(pair[0])) for walk, pair in zip(spread, pairs)]
+    return drawing, ("pass", *spots[0], *spots[1], *spots[2])
+
+
+def all_passings():
+    """The three pairs in all orders, with all signs, in one, two and three walks; with what p, q and r tell of them."""
+    spreads = [(0, 0, 0), (0, 0, 1), (0, 1, 0), (1, 0, 0), (0, 1, 2), (2, 0, 1)]
+    turns = list(itertools.product((1, -1), repeat=3))
+    for seed, (spread, ups, signs) in enumerate(itertools.product(spreads, turns, turns)):
+        (p, q, r), (of_a, of_b, of_c) = ups, signs
+        for each in (2 * seed, 2 * seed + 1):
+            drawing, move = passing(ups, signs, spread, each)
+            yield drawing, move, p * of_b == q * of_c and q * of_a == r * of_b
 
 
 class PlaitTest(unittest.TestCase):
