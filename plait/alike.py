@@ -1,7 +1,7 @@
 """Tables that are alike, and papers that show that two are not."""
 
 from plait.every import tables
-from plait.shared import each_once, refuse_above
+from plait.shared import all_colours, each_once, refuse_above
 
 MOST_TO_COMPARE = 6
 
@@ -84,10 +84,6 @@ def breaks(one, other, entry):
 
 def is_place(images, number):
     return 0 <= number < len(images)
-
-
-def all_colours(numbers, size):
-    return all([0 <= number < size for number in numbers])
 
 
 def begins_with_one(order, shut):

@@ -1,8 +1,7 @@
 """Carrying: what becomes of a colouring by a move."""
 
-from plait.colours import fits, gathered, spread
+from plait.colours import gathered, refuse_unfit, spread
 from plait.drawings import sign_of
-from plait.errors import NoFit
 from plait.moves import bare_over_place, done, pair_at
 from plait.shapes import begun_later
 from plait.tables import back, by
@@ -10,8 +9,7 @@ from plait.tables import back, by
 
 def carried(drawing, move, table, colours):
     after = done(drawing, move)
-    if not fits(drawing, table, colours):
-        raise NoFit("these colours are no colouring of the drawing")
+    refuse_unfit(drawing, table, colours)
     return gathered(after, carried_ways(drawing, move, table, spread(drawing, colours)))
 
 

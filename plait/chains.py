@@ -1,8 +1,8 @@
 """Chains of moves: where they lead, which moves lead back, and colourings carried along."""
 
 from plait.carrying import carried
-from plait.colours import fits
-from plait.errors import NoChain, NoFit
+from plait.colours import refuse_unfit
+from plait.errors import NoChain
 from plait.moves import done, legal, undone
 
 
@@ -26,8 +26,7 @@ def led_back(drawing, moves):
 
 def led_along(drawing, moves, table, colours):
     ahead = stages(drawing, moves)
-    if not fits(drawing, table, colours):
-        raise NoFit("these colours are no colouring of the drawing")
+    refuse_unfit(drawing, table, colours)
     told = list(colours)
     for stage, move in zip(ahead, moves):
         told = carried(stage, move, table, told)

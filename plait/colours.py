@@ -2,16 +2,20 @@
 
 from plait.arcs import arc_count, arcs, meets
 from plait.errors import NoFit, TooMuch
+from plait.shared import all_colours
 
 MOST_LISTS = 65536
 
 
 def fits(drawing, table, colours):
-    if len(colours) != arc_count(drawing):
-        return False
-    if any([colour < 0 or colour >= len(table) for colour in colours]):
+    if len(colours) != arc_count(drawing) or not all_colours(colours, len(table)):
         return False
     return all_held(table, colours, ties(drawing))
+
+
+def refuse_unfit(drawing, table, colours):
+    if not fits(drawing, table, colours):
+        raise NoFit("these colours are no colouring of the drawing")
 
 
 def ties(drawing):

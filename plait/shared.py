@@ -1,4 +1,4 @@
-"""What several files need: the bounds of sizes, and the lists with each number once."""
+"""What several files need: the bounds of sizes, colours, and the lists with each number once."""
 
 from plait.errors import TooBig
 
@@ -8,6 +8,10 @@ MOST_COLOURS = 24
 def refuse_above(most, size):
     if size > most:
         raise TooBig(f"{size} is above {most}")
+
+
+def all_colours(numbers, size):
+    return all([0 <= number < size for number in numbers])
 
 
 def each_once(count):

@@ -1,4 +1,4 @@
-"""The form of the package's code: a part of LANGUAGE.md; of L15, L18, L19, L25, L26 and L28 little or nothing."""
+"""The form of the package's code: a part of LANGUAGE.md; of L4, L19, L22 and L28 only what the package uses."""
 
 import ast
 import builtins
@@ -39,6 +39,10 @@ BARRED_EXPRESSIONS = (
 )
 
 
+# What changes a list or a dict in its place, and what Python's own values have that objects may not (L26).
+CHANGING = set("append clear extend insert pop remove reverse setdefault update".split())
+OWN_VALUES = set("count index title find get join lower upper split strip copy add".split())
+PYTHONS_OWN = {name for kind in (str, int, list, dict, set, bytes, tuple) for name in dir(kind)}
 WALKED = {"zip", "enumerate", "reversed", "range"}
 WALKED_METHODS = {"items", "keys", "values"}
 WALKERS = {"list", "tuple", "dict", "sorted", "sum", "any", "all", "enumerate", "zip"}
@@ -73,6 +77,33 @@ def with_parents():
 
 def called_name(node):
     return node.func.id if isinstance(node, ast.Call) and isinstance(node.func, ast.Name) else None
+
+
+def changed_in(statements):
+    """Dumps of all that these statements change in its place, by a method or by an index."""
+    told = []
+    for statement in statements:
+        for node in ast.walk(statement):
+            if isinstance(node, ast.Call) and isinstance(node.func, ast.Attribute) and node.func.attr in CHANGING:
+                told.append(ast.unparse(node.func.value))
+            elif isinstance(node, ast.Subscript) and isinstance(node.ctx, ast.Store):
+                told.append(ast.unparse(node.value))
+    return told
+
+
+def walked_by(node):
+    """What a loop walks, through enumerate, zip, reversed and the walks of a dict."""
+    if isinstance(node, ast.Call) and called_name(node) in WALKED:
+        return [each for argument in node.args for each in walked_by(argument)]
+    if isinstance(node, ast.Call) and isinstance(node.func, ast.Attribute) and node.func.attr in WALKED_METHODS:
+        return [ast.unparse(node.func.value)]
+    return [ast.unparse(node)]
+
+
+def kept_at_top(tree):
+    """The lists and dicts that stand at the top of a file."""
+    rows = [node for node in tree.body if isinstance(node, ast.Assign) and isinstance(node.value, (ast.List, ast.Dict))]
+    return {row.targets[0].id: row.value for row in rows}
 
 
 def bound_at_top(tree):
@@ -131,6 +162,71 @@ class Imports(unittest.TestCase):
             drawn = {name: below for name, below in drawn.items() if name not in free}
 
 
+class Kept(unittest.TestCase):
+    def test_what_a_loop_walks_is_not_changed_in_it(self):
+        for where, node in nodes(ast.For):
+            self.assertFalse(set(walked_by(node.iter)) & set(changed_in(node.body)), where)
+
+    def test_lists_and_dicts_of_a_files_top_are_only_read(self):
+        trees = [(path.name, ast.parse(text)) for path, text in parsed()]
+        names = {name for where, tree in trees for name in kept_at_top(tree)}
+        for where, tree in trees:
+            for value in kept_at_top(tree).values():
+                within = [node for node in ast.walk(value) if node is not value]
+                self.assertFalse([node for node in within if isinstance(node, (ast.List, ast.Dict))], where)
+            self.assertFalse(names & set(changed_in(tree.body)), where)
+        for where, parent, node in with_parents():
+            if isinstance(node, ast.Name) and isinstance(node.ctx, ast.Load) and node.id in names:
+                self.assertIsInstance(parent, (ast.Subscript, ast.Compare), where)
+
+    def test_a_file_keeps_nothing(self):
+        for where, node in nodes((ast.Global, ast.Nonlocal)):
+            self.fail(where)
+        for path, text in parsed():
+            for node in ast.parse(text).body:
+                if isinstance(node, ast.Assign):
+                    within = [each for each in ast.walk(node.value) if isinstance(each, (ast.Call, ast.ListComp))]
+                    self.assertEqual(within, [], path.name)
+
+
+class Classes(unittest.TestCase):
+    def test_where_a_class_stands(self):
+        names = {node.name for where, node in nodes(ast.ClassDef)}
+        for where, parent, node in with_parents():
+            if isinstance(node, ast.Name) and node.id in names:
+                called = isinstance(parent, ast.Call) and parent.func is node
+                asked = called_name(parent) == "isinstance"
+                self.assertTrue(called or asked or isinstance(parent, (ast.ClassDef, ast.ExceptHandler)), where)
+
+    def test_methods_and_values(self):
+        methods, values = {}, {}
+        for where, node in nodes(ast.ClassDef):
+            inner = [each.name for each in node.body if isinstance(each, ast.FunctionDef)]
+            self.assertEqual(len(set(inner)), len(inner), where)
+            self.assertTrue(all(isinstance(each, (ast.FunctionDef, ast.Pass)) for each in node.body), where)
+            methods.update(dict.fromkeys(inner, where))
+        for where, node in nodes(ast.Attribute):
+            if isinstance(node.ctx, ast.Store):
+                self.assertEqual(ast.unparse(node.value), "self", where)
+                values[node.attr] = where
+        self.assertFalse(set(methods) & set(values))
+        self.assertFalse((set(values) & PYTHONS_OWN) - OWN_VALUES)
+        self.assertFalse((set(methods) & PYTHONS_OWN) - METHODS - {"__init__", "add", "discard"})
+
+    def test_init_gives_back_nothing(self):
+        for where, node in nodes(ast.FunctionDef):
+            if node.name.startswith("__"):
+                self.assertEqual(node.name, "__init__", where)
+                self.assertFalse([each for each in ast.walk(node) if isinstance(each, ast.Return)], where)
+
+    def test_only_the_programs_own_errors_are_taken(self):
+        own = {node.name for where, node in nodes(ast.ClassDef)}
+        for where, node in nodes(ast.ExceptHandler):
+            self.assertIn(node.type.id, own, where)
+        for where, node in nodes(ast.Raise):
+            self.assertIn(called_name(node.exc), own, where)
+
+
 class Code(unittest.TestCase):
     def test_statements(self):
         for where, node in nodes(ast.stmt):
@@ -142,7 +238,8 @@ class Code(unittest.TestCase):
             if isinstance(node, ast.Try):
                 self.assertEqual(node.finalbody, [], where)
             if isinstance(node, ast.ClassDef):
-                self.assertEqual((node.decorator_list, len(node.bases)), ([], 1), where)
+                self.assertEqual(node.decorator_list, [], where)
+                self.assertLessEqual(len(node.bases), 1, where)
             if isinstance(node, ast.FunctionDef):
                 self.assertEqual(node.decorator_list, [], where)
 
