@@ -1,4 +1,8 @@
-"""The form of the package's code: a part of LANGUAGE.md; of L4, L19, L22 and L28 only what the package uses."""
+"""The form of the package's code: a part of LANGUAGE.md.
+
+No rule is looked at beyond what the package uses of the language: so there is little of L4, L13, L19, L22 and L28, and
+of L22 and L26 nothing that hangs on which kind of value a name has.
+"""
 
 import ast
 import builtins
@@ -178,6 +182,11 @@ class Kept(unittest.TestCase):
         for where, parent, node in with_parents():
             if isinstance(node, ast.Name) and isinstance(node.ctx, ast.Load) and node.id in names:
                 self.assertIsInstance(parent, (ast.Subscript, ast.Compare), where)
+
+    def test_what_stands_at_a_files_top(self):
+        for path, text in parsed():
+            for node in ast.parse(text).body[1:]:
+                self.assertIsInstance(node, (ast.ImportFrom, ast.FunctionDef, ast.ClassDef, ast.Assign), path.name)
 
     def test_a_file_keeps_nothing(self):
         for where, node in nodes((ast.Global, ast.Nonlocal)):
